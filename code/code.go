@@ -12,6 +12,14 @@ type Instruction struct {
 	Op, A, B, C byte
 }
 
+// Number is what b and c are together: 16 bits with a sign.
+func (i Instruction) Number() int64 { return int64(int16(i.pair())) }
+
+// Target is what b and c are together as a t: the number of an instruction.
+func (i Instruction) Target() int { return int(i.pair()) }
+
+func (i Instruction) pair() uint16 { return uint16(i.B)<<8 | uint16(i.C) }
+
 // Read takes a program apart. If the bytes are no program, ok is false, and at is the first byte that may not be what it is, or the length, if bytes are missing.
 func Read(text string) (functions []Function, at int, ok bool) {
 	r := reader{text: text}

@@ -61,3 +61,19 @@ func TestReadsShareNothing(t *testing.T) {
 		t.Errorf("P2: one program has changed with another: %+v", second)
 	}
 }
+
+func TestPairsOfBytes(t *testing.T) {
+	for _, c := range []struct {
+		b, c   byte
+		number int64
+		target int
+	}{
+		{0, 0, 0, 0}, {0, 1, 1, 1}, {0, 255, 255, 255}, {1, 0, 256, 256}, {127, 255, 32767, 32767},
+		{128, 0, -32768, 32768}, {255, 255, -1, 65535}, {255, 0, -256, 65280}, {0, 200, 200, 200},
+	} {
+		i := Instruction{Op: 255, A: 255, B: c.b, C: c.c}
+		if i.Number() != c.number || i.Target() != c.target {
+			t.Errorf("P4: the bytes %d %d are %d and %d, want %d and %d", c.b, c.c, i.Number(), i.Target(), c.number, c.target)
+		}
+	}
+}

@@ -2,23 +2,17 @@
 package turnstile
 
 import (
-	"slices"
 	"sync"
 
 	"turnstile/api"
 	"turnstile/code"
+	"turnstile/engine"
 )
 
-// firstTask is the number of the task with which a machine begins.
-const firstTask = 1
-
-// Machine is a machine with its program.
+// Machine is a machine with its program. It is locked here, at its face: what is inside knows of no other goroutine.
 type Machine struct {
-	lock      sync.Mutex
-	config    api.Config
-	functions []code.Function
-	clock     int64
-	queue     []int
+	lock   sync.Mutex
+	engine *engine.Engine
 }
 
 // Load looks at a program and makes a machine (P3).
@@ -30,27 +24,35 @@ func Load(program string, c api.Config) (*Machine, api.Fault) {
 	if !ok {
 		return nil, api.Fault{Code: api.ErrProgram, At: at}
 	}
-	return &Machine{config: c, functions: functions, queue: []int{firstTask}}, api.Fault{}
+	return &Machine{engine: engine.New(functions, c)}, api.Fault{}
 }
 
 // Turn is one turn (P4 to P9).
-func (m *Machine) Turn(ticks int64, in []api.Input) []api.Event { return nil }
+func (m *Machine) Turn(ticks int64, in []api.Input) []api.Event {
+	m.lock.Lock()
+	defer m.lock.Unlock()
+	return m.engine.Turn(ticks, in)
+}
 
 // State tells how the machine stands (P10).
-func (m *Machine) State() int { return 0 }
+func (m *Machine) State() int {
+	m.lock.Lock()
+	defer m.lock.Unlock()
+	return m.engine.State()
+}
 
 // Queue tells the tasks in the queue (P10).
 func (m *Machine) Queue() []int {
 	m.lock.Lock()
 	defer m.lock.Unlock()
-	return slices.Clone(m.queue)
+	return m.engine.Queue()
 }
 
 // Clock tells the time (P10).
 func (m *Machine) Clock() int64 {
 	m.lock.Lock()
 	defer m.lock.Unlock()
-	return m.clock
+	return m.engine.Clock()
 }
 
 // Occupied tells how many cells are not free (P11).
