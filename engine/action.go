@@ -32,13 +32,13 @@ func actions() [api.Instructions]action {
 		api.Func:   makes(step.newFunction),
 		api.Call:   step.call,
 		api.Return: does(func(s step) { s.task.giveBack(s.a()) }),
-		api.Spawn:  toCome,
-		api.Yield:  does(func(s step) { s.engine.yield(s.task) }),
-		api.Sleep:  toCome,
-		api.Await:  toCome,
-		api.Cancel: toCome,
-		api.Emit:   step.emit,
-		api.Read:   toCome,
+		api.Spawn:  step.spawn,
+		api.Yield:  does(func(s step) { s.engine.queue.join(s.task) }),
+		api.Sleep:  takes(step.a, step.sleep),
+		api.Await:  takes(step.b, step.await),
+		api.Cancel: takes(step.a, step.cancel),
+		api.Emit:   takes(step.a, step.emit),
+		api.Read:   takes(step.b, step.read),
 		api.Now:    gives(func(s step) cells.Value { return cells.Number(s.engine.clock) }),
 	}
 }
@@ -69,6 +69,17 @@ func ofNumbers(made func(b, c int64) int64) action {
 	}
 }
 
+// takes is an instruction that does something with an operand, which must be a number.
+func takes(operand func(step) cells.Value, what func(step, int64) failure) action {
+	return func(s step) failure {
+		n, ok := operand(s).Number()
+		if !ok {
+			return api.BadNumber
+		}
+		return what(s, n)
+	}
+}
+
 // goesOn is an instruction behind which the function goes on at t, if a thing is so.
 func goesOn(isSo func(step) bool) action {
 	return does(func(s step) {
@@ -88,9 +99,6 @@ func makes(cell func(step) (cells.Value, bool)) action {
 		}
 	})
 }
-
-// toCome is in the place of an instruction that is not built yet: the task goes on behind it.
-func toCome(step) failure { return none }
 
 func oneIf(so bool) int64 {
 	if so {

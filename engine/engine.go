@@ -2,7 +2,6 @@
 package engine
 
 import (
-	"math"
 	"slices"
 
 	"turnstile/api"
@@ -14,20 +13,23 @@ import (
 type Engine struct {
 	functions []code.Function
 	quantum   int
+	most      int // tasks that may live
 	actions   [api.Instructions]action
 	store     *cells.Store
-	sockets   [api.Sockets]socket
 	clock     int64
-	tasks     []*task // all there were, the one with the number n at n-1
-	living    int     // how many of them live
-	queue     []*task
+	living    []*task
+	outcomes  []cells.Value // of all tasks there were, the one with the number n at n-1; of one that lives the number 0
+	kept      []cells.Value // the cells among the outcomes, each once: no more than there are, however many tasks end
+	queue     line
+	sleepers  line // by their time
+	sockets   [api.Sockets]socket
 	spent     bool
 	events    []api.Event // of the turn that is going on
 }
 
 // New is an engine at the time 0, with the first task in the queue.
 func New(functions []code.Function, c api.Config) *Engine {
-	e := &Engine{functions: functions, quantum: c.Quantum, actions: actions()}
+	e := &Engine{functions: functions, quantum: c.Quantum, most: c.Tasks, actions: actions()}
 	e.store = cells.New(c.Cells, e.visitRoots)
 	e.begin(0, cells.Number(0), cells.Number(0))
 	return e
@@ -35,9 +37,10 @@ func New(functions []code.Function, c api.Config) *Engine {
 
 // Turn is one turn. It gives the turn's events.
 func (e *Engine) Turn(ticks int64, in []api.Input) []api.Event {
-	e.passTime(ticks)
+	e.clock = e.after(ticks)
 	e.receive(in)
-	if e.living > 0 && !e.spent {
+	if e.lives() && !e.spent {
+		e.wakeSleepers()
 		e.runFirst()
 	}
 	events := e.events
@@ -45,33 +48,19 @@ func (e *Engine) Turn(ticks int64, in []api.Input) []api.Event {
 	return events
 }
 
-// passTime lets the clock go on; it stays at the greatest number.
-func (e *Engine) passTime(ticks int64) {
-	left := math.MaxInt64 - e.clock
-	e.clock += min(max(ticks, 0), left)
-}
-
-func (e *Engine) receive(in []api.Input) {
-	for _, i := range in {
-		if 0 <= i.Socket && i.Socket < api.Sockets {
-			e.sockets[i.Socket].receive(i.Byte)
-		}
-	}
-}
-
 // runFirst lets the first task of the queue run.
 func (e *Engine) runFirst() {
-	if len(e.queue) == 0 {
+	if e.queue.empty() {
 		return
 	}
-	t := e.queue[0]
-	e.queue = slices.Delete(e.queue, 0, 1)
+	t := e.queue.first()
+	t.stepOut()
 	t.running = true
 	for n := 0; n < e.quantum && t.running; n++ {
 		e.runOne(t)
 	}
 	if t.running {
-		e.yield(t)
+		e.queue.join(t)
 	}
 }
 
@@ -96,26 +85,42 @@ func (e *Engine) tell(kind int, t *task, n int64) {
 
 // visitRoots visits the values from which cells can be reached.
 func (e *Engine) visitRoots(visit func(cells.Value)) {
-	for _, t := range e.tasks {
+	for _, t := range e.living {
 		t.visit(visit)
+	}
+	for _, v := range e.kept {
+		visit(v)
 	}
 }
 
-// State tells how the machine stands. A task that lives is in the queue: nothing lets one wait elsewhere yet.
+// lives tells if a task lives.
+func (e *Engine) lives() bool { return len(e.living) > 0 }
+
+// waits tells if a task sleeps or reads.
+func (e *Engine) waits() bool {
+	reads := func(s socket) bool { return !s.readers.empty() }
+	return !e.sleepers.empty() || slices.ContainsFunc(e.sockets[:], reads)
+}
+
+// State tells how the machine stands.
 func (e *Engine) State() int {
 	switch {
 	case e.spent:
 		return api.Spent
-	case e.living == 0:
+	case !e.lives():
 		return api.Finished
+	case !e.queue.empty():
+		return api.Running
+	case e.waits():
+		return api.Waiting
 	}
-	return api.Running
+	return api.Stuck
 }
 
 // Queue tells the numbers of the tasks in the queue.
 func (e *Engine) Queue() []int {
-	numbers := make([]int, len(e.queue))
-	for i, t := range e.queue {
+	numbers := make([]int, len(e.queue.tasks))
+	for i, t := range e.queue.tasks {
 		numbers[i] = t.number
 	}
 	return numbers

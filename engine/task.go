@@ -3,17 +3,19 @@ package engine
 import (
 	"slices"
 
-	"turnstile/api"
 	"turnstile/cells"
 	"turnstile/code"
 )
 
-// task is one task: the functions that are running in it while it lives, its outcome when it does not.
+// task is one task that lives, with the functions that are running in it.
 type task struct {
-	number  int
-	frames  []*frame // each called by the one ahead of it
-	running bool
-	outcome cells.Value
+	number    int
+	frames    []*frame // each called by the one ahead of it
+	running   bool
+	line      *line             // where it stands, if it does not run
+	left      func(cells.Value) // what it has left behind there, if it waits: is called with what it waits for
+	until     int64             // the time, if it sleeps
+	awaitedBy line
 }
 
 // frame is a function that is running.
@@ -49,16 +51,6 @@ func (t *task) visit(visit func(cells.Value)) {
 			visit(v)
 		}
 	}
-	visit(t.outcome)
-}
-
-// begin makes a task that calls a function, and lays it at the end of the queue.
-func (e *Engine) begin(function int, argument, caught cells.Value) {
-	t := &task{number: len(e.tasks) + 1}
-	e.tasks = append(e.tasks, t)
-	e.living++
-	e.enter(t, function, argument, caught, func(v cells.Value) { e.end(t, v) })
-	e.queue = append(e.queue, t)
 }
 
 // enter lets a function run in a task; back is called with what it gives.
@@ -67,37 +59,4 @@ func (e *Engine) enter(t *task, function int, argument, caught cells.Value, back
 	registers := make([]cells.Value, f.Registers)
 	registers[0], registers[1] = argument, caught
 	t.frames = append(t.frames, &frame{code: f.Code, registers: registers, back: back})
-}
-
-// yield lays the task that is running at the end of the queue.
-func (e *Engine) yield(t *task) {
-	t.running = false
-	e.queue = append(e.queue, t)
-}
-
-// end is how a task ends whose first function gives a value. (A cell's number is 0.)
-func (e *Engine) end(t *task, v cells.Value) {
-	n, _ := v.Number()
-	e.leave(t, v)
-	e.tell(api.Ended, t, n)
-}
-
-func (e *Engine) fail(t *task, why failure) {
-	e.leave(t, cells.Number(-int64(why)))
-	e.tell(api.Failed, t, int64(why))
-}
-
-// leave ends the life of a task: of what it had only the outcome stays.
-func (e *Engine) leave(t *task, outcome cells.Value) {
-	t.running = false
-	t.frames = nil
-	t.outcome = outcome
-	e.living--
-}
-
-// spend stops the machine at a task that asked for a cell when none was free.
-func (e *Engine) spend(t *task) {
-	t.running = false
-	e.spent = true
-	e.tell(api.Memory, t, 0)
 }

@@ -113,6 +113,36 @@ func TestAskedFromSeveralGoroutines(t *testing.T) {
 	}
 }
 
+// Bytes that several goroutines bring to several tasks are all read, each once.
+func TestSeveralTasksAndGoroutines(t *testing.T) {
+	m := settled(t, readers(0, 1, 2, 3))
+	seen := make([][]api.Event, 4)
+	var group sync.WaitGroup
+	for g := range seen {
+		group.Go(func() {
+			for b := range 100 {
+				seen[g] = append(seen[g], m.Turn(1, to(g, byte(b)))...)
+				if q := m.Queue(); len(q) > 4 {
+					t.Errorf("P2: the queue is %v", q)
+				}
+			}
+		})
+	}
+	group.Wait()
+	told := map[api.Event]int{}
+	for _, e := range slices.Concat(slices.Concat(seen...), all(m, 8)) {
+		told[e]++
+	}
+	for g := range 4 {
+		for b := range int64(100) {
+			if n := told[by(g+2, emitted(b))]; n != 1 {
+				t.Errorf("P2: the byte %d of the socket %d is told %d times", b, g, n)
+			}
+		}
+	}
+	wantState(t, m, api.Waiting)
+}
+
 // Each goroutine has a machine of its own: they share nothing.
 func TestMachinesSideBySide(t *testing.T) {
 	var group sync.WaitGroup
@@ -138,7 +168,7 @@ func TestCallsEnd(t *testing.T) {
 			m := load(t, program(function(2, prepared+one+jump(0))), config(3, 7))
 			for _, ticks := range []int64{0, math.MinInt64, math.MaxInt64, 1} {
 				m.Turn(ticks, []api.Input{{Socket: math.MinInt}, {Socket: 3, Byte: 255}})
-				if s := m.State(); s < api.Running || s > api.Spent || len(m.Queue()) > 1 || m.Clock() < 0 {
+				if s := m.State(); s < api.Running || s > api.Spent || len(m.Queue()) > 16 || m.Clock() < 0 {
 					t.Errorf("P1: instruction %d: state %d, queue %v, time %d", op, s, m.Queue(), m.Clock())
 				}
 			}

@@ -18,6 +18,14 @@ func failed(why int) api.Event  { return api.Event{Kind: api.Failed, Task: 1, N:
 
 var memory = api.Event{Kind: api.Memory, Task: 1}
 
+func cancelled(task int) api.Event { return api.Event{Kind: api.Cancelled, Task: task} }
+
+// by is an event of another task than the first.
+func by(task int, e api.Event) api.Event {
+	e.Task = task
+	return e
+}
+
 func num(a, n int) string           { return line(api.Num, a, n>>8&255, n&255) }
 func move(a, b int) string          { return line(api.Move, a, b, 0) }
 func emit(a int) string             { return line(api.Emit, a, 0, 0) }
@@ -30,9 +38,14 @@ func get(a, b, c int) string        { return line(api.Get, a, b, c) }
 func put(a, b, c int) string        { return line(api.Put, a, b, c) }
 func caught(a, f, c int) string     { return line(api.Func, a, f, c) }
 func call(a, b, c int) string       { return line(api.Call, a, b, c) }
+func spawn(a, b, c int) string      { return line(api.Spawn, a, b, c) }
+func sleep(a int) string            { return line(api.Sleep, a, 0, 0) }
+func await(a, b int) string         { return line(api.Await, a, b, 0) }
+func cancel(a int) string           { return line(api.Cancel, a, 0, 0) }
+func read(a, b int) string          { return line(api.Read, a, b, 0) }
 func of(op int, a, b, c int) string { return line(op, a, b, c) }
 func config(cells, quantum int) api.Config {
-	return api.Config{Cells: cells, Quantum: quantum, Work: 1, Tasks: 1}
+	return api.Config{Cells: cells, Quantum: quantum, Work: 1, Tasks: 16}
 }
 
 func load(t *testing.T, text string, c api.Config) *turnstile.Machine {
