@@ -27,6 +27,13 @@ func slots(t *testing.T, s *Store, n int) Value {
 	return v
 }
 
+func wantSlot(t *testing.T, s *Store, v Value, n int, want Value) {
+	t.Helper()
+	if got := s.Slot(v, n); got != want {
+		t.Errorf("P4: the slot %d of %+v is %+v, want %+v", n, v, got, want)
+	}
+}
+
 func wantNone(t *testing.T, s *Store) {
 	t.Helper()
 	if v, ok := s.NewSlots(0); ok || v != (Value{}) {
@@ -56,8 +63,8 @@ func TestNumbersAreNoCells(t *testing.T) {
 	s := New(2, h.visit)
 	h.held = []Value{slots(t, s, 1)}
 	for _, n := range []int64{0, 1, 2, 3, -1, math.MaxInt64, math.MinInt64} {
-		if _, ok := s.Slots(Number(n)); ok {
-			t.Errorf("P4: the number %d has slots", n)
+		if has, ok := s.Slots(Number(n)); ok || has != 0 {
+			t.Errorf("P4: the number %d has %d slots", n, has)
 		}
 		if f, caught, ok := s.Function(Number(n)); f != 0 || caught != (Value{}) || ok {
 			t.Errorf("P4: the number %d is a function cell: %d, %+v, %v", n, f, caught, ok)
@@ -77,26 +84,20 @@ func TestSlots(t *testing.T) {
 	for n := range 9 {
 		v := slots(t, s, n)
 		h.held = append(h.held, v)
-		list, ok := s.Slots(v)
-		if !ok || len(list) != n {
-			t.Fatalf("P4: a cell with %d slots has %d, %v", n, len(list), ok)
+		if has, ok := s.Slots(v); !ok || has != n {
+			t.Fatalf("P4: a cell with %d slots has %d, %v", n, has, ok)
 		}
-		for i := range list {
-			if list[i] != Number(0) {
-				t.Errorf("P4: the slot %d of %d begins with %+v", i, n, list[i])
-			}
-			list[i] = Number(int64(10*n + i))
+		for i := range n {
+			wantSlot(t, s, v, i, Number(0))
+			s.SetSlot(v, i, Number(int64(10*n+i)))
 		}
 		if _, _, ok := s.Function(v); ok {
 			t.Errorf("P4: a cell with %d slots is a function cell", n)
 		}
 	}
 	for n, v := range h.held {
-		list, _ := s.Slots(v)
-		for i := range list {
-			if list[i] != Number(int64(10*n+i)) {
-				t.Errorf("P4: the slot %d of %d is %+v", i, n, list[i])
-			}
+		for i := range n {
+			wantSlot(t, s, v, i, Number(int64(10*n+i)))
 		}
 	}
 }
@@ -115,8 +116,8 @@ func TestFunctionCells(t *testing.T) {
 		if got != f || value != caught || !ok {
 			t.Errorf("P4: the function cell %d with %+v is %d with %+v, %v", f, caught, got, value, ok)
 		}
-		if list, ok := s.Slots(v); ok || list != nil {
-			t.Errorf("P4: a function cell has the slots %+v", list)
+		if n, ok := s.Slots(v); ok || n != 0 {
+			t.Errorf("P4: a function cell has %d slots", n)
 		}
 		caught = v
 	}
@@ -179,8 +180,7 @@ func TestChains(t *testing.T) {
 			first, _ = s.NewFunction(i%8, next)
 		} else {
 			first = slots(t, s, 8)
-			list, _ := s.Slots(first)
-			list[i%8] = next
+			s.SetSlot(first, i%8, next)
 		}
 		h.held = []Value{Number(3), first, first}
 	}
@@ -197,13 +197,10 @@ func TestRings(t *testing.T) {
 	s := New(4, h.visit)
 	for range 30 {
 		one, two := slots(t, s, 1), slots(t, s, 1)
-		list, _ := s.Slots(one)
-		list[0] = two
-		other, _ := s.Slots(two)
-		other[0] = one
+		s.SetSlot(one, 0, two)
+		s.SetSlot(two, 0, one)
 		self := slots(t, s, 1)
-		itself, _ := s.Slots(self)
-		itself[0] = self
+		s.SetSlot(self, 0, self)
 		h.held = []Value{one, self}
 		h.held = append(h.held, slots(t, s, 0))
 		wantNone(t, s)
@@ -218,16 +215,16 @@ func TestWhatStaysIsNotChanged(t *testing.T) {
 	kept := slots(t, s, 2)
 	function, _ := s.NewFunction(5, kept)
 	h.held = []Value{function}
-	list, _ := s.Slots(kept)
-	list[1] = Number(-9)
+	s.SetSlot(kept, 1, Number(-9))
 	for range 10 {
 		slots(t, s, 8)
 	}
 	f, caught, ok := s.Function(function)
-	after, isCell := s.Slots(caught)
-	if f != 5 || caught != kept || !ok || !isCell || len(after) != 2 || after[0] != Number(0) || after[1] != Number(-9) {
-		t.Errorf("P9: the function cell is %d with %+v, and that %+v", f, caught, after)
+	if n, isCell := s.Slots(caught); f != 5 || caught != kept || !ok || !isCell || n != 2 {
+		t.Fatalf("P9: the function cell is %d with %+v, and that has %d slots", f, caught, n)
 	}
+	wantSlot(t, s, kept, 0, Number(0))
+	wantSlot(t, s, kept, 1, Number(-9))
 }
 
 // A new cell has nothing of the one that lay at its place.
@@ -236,12 +233,9 @@ func TestPlacesAreTakenAnew(t *testing.T) {
 	s := New(1, h.visit)
 	for range 5 {
 		v := slots(t, s, 8)
-		list, _ := s.Slots(v)
-		for i := range list {
-			if list[i] != Number(0) {
-				t.Fatalf("P4: a new cell's slot %d is %+v", i, list[i])
-			}
-			list[i] = Number(77)
+		for i := range 8 {
+			wantSlot(t, s, v, i, Number(0))
+			s.SetSlot(v, i, Number(77))
 		}
 		f, _ := s.NewFunction(3, Number(6))
 		if got, caught, ok := s.Function(f); got != 3 || caught != Number(6) || !ok {
@@ -254,9 +248,6 @@ func TestStoresAreApart(t *testing.T) {
 	h := &holder{}
 	one, two := New(1, h.visit), New(1, h.visit)
 	v, w := slots(t, one, 1), slots(t, two, 1)
-	list, _ := one.Slots(v)
-	list[0] = Number(5)
-	if other, _ := two.Slots(w); other[0] != Number(0) {
-		t.Errorf("P2: a cell of another store has changed: %+v", other)
-	}
+	one.SetSlot(v, 0, Number(5))
+	wantSlot(t, two, w, 0, Number(0))
 }

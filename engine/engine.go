@@ -13,6 +13,7 @@ import (
 type Engine struct {
 	functions []code.Function
 	quantum   int
+	work      int // units of the collector at a turn
 	most      int // tasks that may live
 	actions   [api.Instructions]action
 	store     *cells.Store
@@ -29,7 +30,7 @@ type Engine struct {
 
 // New is an engine at the time 0, with the first task in the queue.
 func New(functions []code.Function, c api.Config) *Engine {
-	e := &Engine{functions: functions, quantum: c.Quantum, most: c.Tasks, actions: actions()}
+	e := &Engine{functions: functions, quantum: c.Quantum, work: c.Work, most: c.Tasks, actions: actions()}
 	e.store = cells.New(c.Cells, e.visitRoots)
 	e.begin(0, cells.Number(0), cells.Number(0))
 	return e
@@ -42,6 +43,7 @@ func (e *Engine) Turn(ticks int64, in []api.Input) []api.Event {
 	if e.lives() && !e.spent {
 		e.wakeSleepers()
 		e.runFirst()
+		e.store.Work(e.work)
 	}
 	events := e.events
 	e.events = nil
@@ -128,3 +130,9 @@ func (e *Engine) Queue() []int {
 
 // Clock tells the time.
 func (e *Engine) Clock() int64 { return e.clock }
+
+// Occupied tells how many cells are not free.
+func (e *Engine) Occupied() int { return e.store.Occupied() }
+
+// Counts tells what the collector has done.
+func (e *Engine) Counts() api.Counts { return e.store.Counts() }

@@ -29,37 +29,37 @@ func (s step) newFunction() (cells.Value, bool) {
 }
 
 func (s step) getSlot() failure {
-	slot, why := s.slot(s.b(), s.c())
+	n, why := s.slot(s.b(), s.c())
 	if why != none {
 		return why
 	}
-	s.set(*slot)
+	s.set(s.engine.store.Slot(s.b(), n))
 	return none
 }
 
 func (s step) putSlot() failure {
-	slot, why := s.slot(s.a(), s.b())
+	n, why := s.slot(s.a(), s.b())
 	if why != none {
 		return why
 	}
-	*slot = s.c()
+	s.engine.store.SetSlot(s.a(), n, s.c())
 	return none
 }
 
-// slot finds the slot of a cell, or tells why there is none.
-func (s step) slot(cell, index cells.Value) (*cells.Value, failure) {
+// slot tells which slot of a cell is meant, or why there is none.
+func (s step) slot(cell, index cells.Value) (int, failure) {
 	slots, ok := s.engine.store.Slots(cell)
 	if !ok {
-		return nil, api.BadCell
+		return 0, api.BadCell
 	}
 	n, ok := index.Number()
 	if !ok {
-		return nil, api.BadNumber
+		return 0, api.BadNumber
 	}
-	if n < 0 || n >= int64(len(slots)) {
-		return nil, api.BadIndex
+	if n < 0 || n >= int64(slots) {
+		return 0, api.BadIndex
 	}
-	return &slots[n], none
+	return int(n), none
 }
 
 func (s step) call() failure {

@@ -30,8 +30,8 @@ func TestOutcomesStay(t *testing.T) {
 	}
 	e := of(code.Instruction{Op: api.Cell, A: 1, B: 3}, code.Instruction{Op: api.Return, A: 1})
 	e.Turn(0, nil)
-	if slots, ok := e.store.Slots(e.outcomes[0]); !ok || len(slots) != 3 {
-		t.Errorf("the outcome is no cell with 3 slots: %v, %v", slots, ok)
+	if slots, ok := e.store.Slots(e.outcomes[0]); !ok || slots != 3 {
+		t.Errorf("the outcome is no cell with 3 slots: %d, %v", slots, ok)
 	}
 	// The outcome lets the only cell be reached.
 	if v, ok := e.store.NewSlots(0); ok {

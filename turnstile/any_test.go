@@ -132,11 +132,13 @@ func (w writer) input() []api.Input {
 type told struct {
 	events map[[2]int64]int
 	states map[int]int
+	cycles int
+	forced [3]int // by the cycle's phase
 }
 
-func newTold() told { return told{map[[2]int64]int{}, map[int]int{}} }
+func newTold() *told { return &told{events: map[[2]int64]int{}, states: map[int]int{}} }
 
-func (seen told) count(events []api.Event, state int) {
+func (seen *told) count(events []api.Event, state int) {
 	for _, e := range events {
 		if e.Kind == api.Emitted || e.Kind == api.Ended {
 			e.N = 0
@@ -146,8 +148,15 @@ func (seen told) count(events []api.Event, state int) {
 	seen.states[state]++
 }
 
-// wantEach is that each kind of event, each failure and each state has come often enough.
-func (seen told) wantEach(t *testing.T, least int) {
+func (seen *told) countCollector(k modelCollector) {
+	seen.cycles += k.counts.Cycles
+	for phase, n := range k.forced {
+		seen.forced[phase] += n
+	}
+}
+
+// wantEach is that each kind of event, each failure, each state and each kind of collection has come often enough.
+func (seen *told) wantEach(t *testing.T, least int) {
 	t.Helper()
 	kinds := [][2]int64{{api.Emitted, 0}, {api.Ended, 0}, {api.Cancelled, 0}, {api.Memory, 0}}
 	for why := range int64(8) {
@@ -163,10 +172,13 @@ func (seen told) wantEach(t *testing.T, least int) {
 			t.Errorf("the programs are too tame: the state %d came %d times, of %v", state, seen.states[state], seen.states)
 		}
 	}
+	if seen.cycles < least || slices.Min(seen.forced[:]) < least {
+		t.Errorf("the programs are too tame: %d cycles, forced collections %v", seen.cycles, seen.forced)
+	}
 }
 
 // sameAsModel holds a machine against the model, turn by turn.
-func sameAsModel(t *testing.T, w writer, text string, c api.Config, turns int, seen told) {
+func sameAsModel(t *testing.T, w writer, text string, c api.Config, turns int, seen *told) {
 	t.Helper()
 	m, right := load(t, text, c), newModel(text, c)
 	for n := range turns {
@@ -179,8 +191,12 @@ func sameAsModel(t *testing.T, w writer, text string, c api.Config, turns int, s
 		if m.State() != state || !slices.Equal(m.Queue(), queue) || m.Clock() != right.clock {
 			t.Fatalf("P10: %x, %+v: turn %d: %d %v %d, want %d %v %d", text, c, n, m.State(), m.Queue(), m.Clock(), state, queue, right.clock)
 		}
+		if m.Occupied() != right.collector.occupied() || m.Counts() != right.collector.counts {
+			t.Fatalf("P11: %x, %+v: turn %d: %d cells, %+v, want %d, %+v", text, c, n, m.Occupied(), m.Counts(), right.collector.occupied(), right.collector.counts)
+		}
 		seen.count(got, state)
 	}
+	seen.countCollector(right.collector)
 }
 
 func anyConfig(random *rand.Rand) api.Config {
@@ -213,6 +229,33 @@ func TestAnyProgramWithFewerCells(t *testing.T) {
 		for _, cells := range []int{1, 2, 3, 5, 8, 13, 30, 100} {
 			c.Cells, c.Work = cells, 1+random.Intn(50)
 			wantUpToMemory(t, text, eventsByTurn(load(t, text, c), in), most)
+		}
+	}
+}
+
+// The same program with other numbers of units: the events are the same, turn by turn, and so are the states.
+func TestAnyProgramWhateverWorkIs(t *testing.T) {
+	random := rand.New(rand.NewSource(6))
+	for range 300 {
+		w := writer{random, 1 + random.Intn(4)}
+		text, c := w.program(), anyConfig(random)
+		var in [][]api.Input
+		for range 60 {
+			in = append(in, w.input())
+		}
+		c.Work = 1
+		least := load(t, text, c)
+		want := eventsByTurn(least, in)
+		for _, work := range []int{2, 3, 7, 20, 50} {
+			c.Work = work
+			m := load(t, text, c)
+			got := eventsByTurn(m, in)
+			if !slices.EqualFunc(got, want, slices.Equal[[]api.Event]) {
+				t.Fatalf("P8: %x, %+v: work %d tells %v, and 1 %v", text, c, work, got, want)
+			}
+			if m.State() != least.State() || !slices.Equal(m.Queue(), least.Queue()) {
+				t.Fatalf("P8: %x, %+v: work %d: state %d, queue %v, and with 1 %d, %v", text, c, work, m.State(), m.Queue(), least.State(), least.Queue())
+			}
 		}
 	}
 }
@@ -250,12 +293,12 @@ func wantUpToMemory(t *testing.T, text string, got, most [][]api.Event) {
 func FuzzTurn(f *testing.F) {
 	random := rand.New(rand.NewSource(4))
 	for n := range 20 {
-		f.Add(writer{random, 3}.program(), 5, 10, 1+n%16)
+		f.Add(writer{random, 3}.program(), 5, 10, 1+n, 1+n%16)
 	}
-	f.Add(mixed, 1, 1, 1)
-	f.Add(program(function(8, strings.Repeat(caught(2, 0, 2)+call(2, 2, 2), 100))), 200, 50, 16)
-	f.Fuzz(func(t *testing.T, text string, cells, quantum, tasks int) {
-		c := api.Config{Cells: cells, Quantum: quantum, Work: 1, Tasks: tasks}
+	f.Add(mixed, 1, 1, 1, 1)
+	f.Add(program(function(8, strings.Repeat(caught(2, 0, 2)+call(2, 2, 2), 100))), 200, 50, 50, 16)
+	f.Fuzz(func(t *testing.T, text string, cells, quantum, work, tasks int) {
+		c := api.Config{Cells: cells, Quantum: quantum, Work: work, Tasks: tasks}
 		if m, _ := turnstile.Load(text, c); m == nil {
 			return
 		}

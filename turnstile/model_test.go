@@ -8,7 +8,7 @@ import (
 	"turnstile/api"
 )
 
-// model is the document's machine, told as plainly as can be. There are no lists to stand in: a task knows where it is and since when, and who comes first is found out by looking at all. Cells are never freed, but counted anew, as far as they can be reached, each time when one is asked for.
+// model is the document's machine, told as plainly as can be. There are no lists to stand in: a task knows where it is and since when, and who comes first is found out by looking at all. If a cell may be had is found out by counting those that can be reached; which are free is told by the model's collector.
 type model struct {
 	config    api.Config
 	functions []modelFunction
@@ -18,6 +18,7 @@ type model struct {
 	spent     bool
 	clock     int64
 	moves     int
+	collector modelCollector
 	events    []api.Event
 }
 
@@ -61,7 +62,7 @@ type modelCell struct {
 }
 
 func newModel(text string, c api.Config) *model {
-	m := &model{config: c}
+	m := &model{config: c, collector: modelCollector{places: make([]*modelCell, c.Cells)}}
 	rest := text[1:]
 	for range text[0] {
 		f := modelFunction{registers: int(rest[0])}
@@ -134,6 +135,7 @@ func (m *model) turn(ticks int64, in []api.Input) []api.Event {
 	if queue := m.those(queued, anyTask); len(queue) > 0 {
 		m.run(queue[0])
 	}
+	m.collect()
 	return m.events
 }
 
@@ -199,15 +201,18 @@ func (m *model) back(v any) {
 
 // fresh is a new cell in register a, if there is room for one.
 func (m *model) fresh(a *any, c *modelCell) {
-	if m.reachable() == m.config.Cells {
+	m.makeRoom()
+	if len(m.reached()) == m.config.Cells {
 		m.spent = true
 		m.tell(api.Memory, 0)
 		return
 	}
+	m.collector.lay(c)
 	*a = c
 }
 
-func (m *model) reachable() int {
+// reached are the cells that can be reached.
+func (m *model) reached() map[*modelCell]int {
 	seen := map[*modelCell]int{}
 	var look func(values []any)
 	look = func(values []any) {
@@ -227,7 +232,7 @@ func (m *model) reachable() int {
 			look(c.registers)
 		}
 	}
-	return len(seen)
+	return seen
 }
 
 // one runs an instruction.

@@ -27,7 +27,7 @@ func Load(program string, c api.Config) (*Machine, api.Fault) {
 	return &Machine{engine: engine.New(functions, c)}, api.Fault{}
 }
 
-// Turn is one turn (P4 to P9).
+// Turn is one turn (P4 to P9, P11).
 func (m *Machine) Turn(ticks int64, in []api.Input) []api.Event {
 	m.lock.Lock()
 	defer m.lock.Unlock()
@@ -56,7 +56,15 @@ func (m *Machine) Clock() int64 {
 }
 
 // Occupied tells how many cells are not free (P11).
-func (m *Machine) Occupied() int { return 0 }
+func (m *Machine) Occupied() int {
+	m.lock.Lock()
+	defer m.lock.Unlock()
+	return m.engine.Occupied()
+}
 
 // Counts tells what the collector has done (P11).
-func (m *Machine) Counts() api.Counts { return api.Counts{} }
+func (m *Machine) Counts() api.Counts {
+	m.lock.Lock()
+	defer m.lock.Unlock()
+	return m.engine.Counts()
+}
